@@ -1,0 +1,1 @@
+"""Allticked: what becomes of all selected when the list changes."""
