@@ -2,6 +2,8 @@
 
 from allticked.errors import BadName
 from allticked.formulas import Formula
+from allticked.keepings import Keeping
+from allticked.stories import run
 from allticked.worlds import World
 
 
@@ -22,10 +24,13 @@ def deep(many):
 
 def any_objects():
     """Return new objects of all kinds, none of them a name, a formula, a state or a moment of a world."""
+    world = World(["aa"], ["bb"], [])
+    keeping = Keeping(world, [("mark", "bb", "cc", "aa")])
     return [
         True, False, 0, 1, -1, 3, 10 ** 5000, "", " ", "A", "a b", "a1", "no_name", "a" * 9, "and", "or", "not", "there ",
         [1], [None], ["a b"], [["open"]], ["open", "open"], (2,), ("open", 1), {"open": True}, {}, {1: 2}, [{}], ({},),
-        looped(), deep(3000), Formula("ab"), [Formula("ab")], World(["aa"], ["bb"], []), BadName("c"), Formula, "\u00e4",
+        looped(), deep(3000), Formula("ab"), [Formula("ab")], world, keeping, [keeping], run(keeping, (), []), BadName("c"),
+        Formula, "\u00e4",
     ]
 
 

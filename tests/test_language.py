@@ -19,6 +19,20 @@ INTERFACE = {
             "__init__", "event_names", "all_states", "begins", "can", "after", "leads", "way", "span", "until", "__eq__",
         ],
     },
+    "keepings": {
+        "Keeping": [
+            "__init__", "names", "deeds", "words", "formula", "moment_of", "effect_of", "stopping", "changed", "__eq__",
+        ],
+    },
+    "ready": {
+        "these": ["world", "tick", "done", "wanted", "effect"], "by_question": ["world", "done", "wanted", "effect"],
+        "all_but": ["world", "tick", "done", "wanted", "out", "effect"], "of_then": ["world", "tick", "done", "wanted", "effect"],
+        "both_times": ["world", "tick", "done", "wanted", "effect"], "joined": ["one", "other", "word"],
+    },
+    "stories": {
+        "Story": ["__init__", "words", "holds", "__eq__"], "run": ["keeping", "state", "events", "left"], "stories": ["keeping"],
+        "harmed": ["keeping", "harm"], "reached": ["keeping"],
+    },
 }
 PARAMETERS = {
     "formulas.Formula.__init__": "(self, text)", "formulas.Formula.words": "(self)", "formulas.Formula.holds": "(self, words)",
@@ -26,6 +40,10 @@ PARAMETERS = {
     "worlds.World.all_states": "(self)", "worlds.World.begins": "(self)", "worlds.World.can": "(self, state, event)",
     "worlds.World.after": "(self, state, event)", "worlds.World.leads": "(self, state, moment)",
     "worlds.World.way": "(self, state, other, moment)", "worlds.World.span": "(self, moment)", "worlds.World.until": "(self, moment)",
+    "keepings.Keeping.__init__": "(self, world, steps)", "keepings.Keeping.names": "(self)", "keepings.Keeping.deeds": "(self)",
+    "keepings.Keeping.words": "(self)", "keepings.Keeping.formula": "(self, name)", "keepings.Keeping.moment_of": "(self, name)",
+    "keepings.Keeping.effect_of": "(self, name)", "keepings.Keeping.stopping": "(self)",
+    "keepings.Keeping.changed": "(self, name, formula)", "stories.Story.words": "(self)", "stories.Story.holds": "(self, formula)",
 }
 
 ALLOWED = set(
@@ -119,6 +137,22 @@ class TestLanguage(unittest.TestCase):
         for name, node in nodes(ast.Name):
             if isinstance(node.ctx, ast.Load) and hasattr(builtins, node.id):
                 self.assertIn(node.id, ALLOWED, name)
+
+    def test_no_variable_has_the_name_of_a_class_or_an_import(self):
+        for file, text in files().items():
+            tree = ast.parse(text)
+            taken = {alias.name for node in ast.walk(tree) if isinstance(node, ast.ImportFrom) for alias in node.names}
+            taken |= {node.name for node in tree.body if isinstance(node, ast.ClassDef)}
+            names = {node.id for node in ast.walk(tree) if isinstance(node, ast.Name) and isinstance(node.ctx, ast.Store)}
+            names |= {node.arg for node in ast.walk(tree) if isinstance(node, ast.arg)}
+            self.assertEqual(names & taken, set(), file)
+
+    def test_what_is_iterated_on_the_spot_is_not_stored(self):
+        for name, node in nodes((ast.Assign, ast.Return)):
+            if isinstance(node.value, ast.Call) and isinstance(node.value.func, (ast.Name, ast.Attribute)):
+                called = node.value.func
+                word = called.id if isinstance(called, ast.Name) else called.attr
+                self.assertNotIn(word, ("zip", "range", "enumerate", "reversed", "items", "keys", "values"), name)
 
     def test_attributes_and_methods(self):
         own = methods()
