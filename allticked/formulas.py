@@ -175,14 +175,18 @@ def worth(code, columns, full):
 
 
 def differing(one, other):
-    """Tell for which choices of their words just one of two formulas holds, one bit each.
+    """Tell for which choices of their words just one of two formulas holds, one bit each."""
+    words = words_of([one, other])
+    return table_of(one, words) ^ table_of(other, words)
+
+
+def table_of(formula, words):
+    """Tell for which choices of some words a formula holds, one bit each.
 
     The bits of a choice's number tell which words it has.
     """
-    words = words_of([one, other])
     columns = {word: column(at, len(words)) for at, word in enumerate(words)}
-    full = (1 << (1 << len(words))) - 1
-    return worth(one.code, columns, full) ^ worth(other.code, columns, full)
+    return worth(formula.code, columns, (1 << (1 << len(words))) - 1)
 
 
 def column(at, many):

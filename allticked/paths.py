@@ -3,10 +3,10 @@
 A path has these parts: how many events it has, the places of its states in the order of the
 world, for each deed whether it takes the row, the states as the moments begin, the ways that
 lead from one to the next, the deeds at which a stop left the row out, the steps that hold. A
-turn is what a path grows by at one moment; it has the same parts, with all steps that hold.
+turn is what a path grows by at one moment; it has the same parts. What stands ahead of the
+states tells the order of paths.
 """
 
-from allticked.formulas import worth
 from allticked.steps import ends_at, steps_at
 from allticked.worlds import ways_from, words_now
 
@@ -17,21 +17,37 @@ HELD = 6
 def paths_of(keeping):
     """List all paths that are unlike in states or in the deeds that take the row, in order."""
     world = keeping.world
-    paths = [(0, (at,), (), (state,), (), (), ()) for at, state in enumerate(world.states) if state in world.beginnings]
+    paths = begun_paths(world)
     for moment in world.moments:
         ways = ways_behind(world, moment)
         turns = {}
         longer = []
-        for many, places, taken, states, passed, left_out, held in paths:
-            pair = (states[-1], held)
+        for path in paths:
+            pair = (path[STATES][-1], path[HELD])
             if pair not in turns:
                 turns[pair] = turns_of(keeping, moment, pair, ways)
-            for more, place, takes, state, way, left, names in turns[pair]:
-                longer.append((
-                    many + more, places + place, taken + takes, states + state, passed + way, left_out + left, names,
-                ))
+            longer.extend([grown(path, turn) for turn in turns[pair]])
         paths = longer
     return sorted(paths, key=lambda path: path[:STATES])
+
+
+def begun_paths(world):
+    """List the paths of all rows as the first moment begins."""
+    return [(0, (at,), (), (state,), (), (), ()) for at, state in enumerate(world.states) if state in world.beginnings]
+
+
+def grown(path, turn):
+    """Tell a path that has grown by a turn."""
+    many, places, taken, states, passed, left_out, held = path
+    more, place, takes, state, way, left, names = turn
+    return (many + more, places + place, taken + takes, states + state, passed + way, left_out + left, held + names)
+
+
+def earlier(path, other):
+    """Tell the path that stands first of two; None stands behind all."""
+    if other is None:
+        return path
+    return path if path is not None and path[:STATES] <= other[:STATES] else other
 
 
 def ways_behind(world, moment):
@@ -43,12 +59,16 @@ def ways_behind(world, moment):
 
 
 def turns_of(keeping, moment, pair, ways):
-    """List the turns that a row of some state, with some steps that hold, can take at a moment."""
+    """List the turns that a row of some state, with some steps that hold, can take at a moment.
+
+    Of the steps that hold only those have to be told that the steps of this moment look at.
+    """
     state, held = pair
     states = keeping.world.states
     deeds = [step[2] for step in steps_at(keeping, moment) if step[0] == "deed"]
     turns = []
-    for behind, names, left in ends_at(keeping, moment, state, held):
+    for behind, holding, left in ends_at(keeping, moment, state, held):
+        names = holding[len(held):]
         takes = tuple([name in names for name in deeds])
         if ways is None:
             turns.append((0, (), takes, (), (), left, names))
@@ -72,7 +92,7 @@ def pairs_by_moment(keeping):
         for pair in pairs:
             for more, place, takes, state, way, left, names in turns_of(keeping, moment, pair, ways):
                 if state:
-                    found[(state[0], names)] = True
+                    found[(state[0], pair[1] + names)] = True
         pairs = list(found)
     return told
 
@@ -82,21 +102,3 @@ def in_order(keeping, pairs):
     places = {name: at for at, name in enumerate(keeping.names())}
     ahead = {state: at for at, state in enumerate(keeping.world.states)}
     return sorted(pairs, key=lambda pair: (ahead[pair[0]], len(pair[1]), [places[step] for step in pair[1]]))
-
-
-def bits_of(keeping, paths, formula):
-    """Tell of which paths a formula holds, one bit each, the lowest for the first path."""
-    columns = {word: column_of(keeping, paths, word) for word in formula.words()}
-    return worth(formula.code, columns, (1 << len(paths)) - 1)
-
-
-def column_of(keeping, paths, word):
-    """Tell of which paths a word holds, one bit each."""
-    fact, at, moment = word.partition("@")
-    if at == "":
-        signs = ["1" if word in path[HELD] else "0" for path in paths]
-    else:
-        place = keeping.world.moments.index(moment)
-        sign = {state: "1" if fact in words_now(state) else "0" for state in keeping.world.states}
-        signs = [sign[path[STATES][place]] for path in paths]
-    return int("".join(signs[::-1]), 2) if signs else 0

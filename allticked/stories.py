@@ -1,10 +1,11 @@
 """Stories: what comes of one row, by its events and by the steps of a keeping."""
 
 from allticked.errors import BadCount, BadState, NoEvent, NoStep
+from allticked.firsts import first_paths
 from allticked.formulas import known_formula
-from allticked.paths import bits_of, pairs_by_moment, paths_of
+from allticked.paths import pairs_by_moment, paths_of
 from allticked.steps import end_at
-from allticked.worlds import read_state, words_now
+from allticked.worlds import read_state, words_at
 
 
 class Story:
@@ -19,10 +20,7 @@ class Story:
 
     def words(self):
         """List the words of the keeping that hold."""
-        told = []
-        for moment, state in zip(self.keeping.world.moments, self.states):
-            told.extend([f"{word}@{moment}" for word in words_now(state)])
-        return told + list(self.held)
+        return words_by_now(self.keeping.world, self.states, self.held)
 
     def holds(self, formula):
         """Tell whether a formula holds."""
@@ -33,6 +31,14 @@ class Story:
             isinstance(other, Story) and self.states == other.states and self.events == other.events
             and self.left_out == other.left_out and self.keeping == other.keeping
         )
+
+
+def words_by_now(world, states, held):
+    """List the words that hold of a row, by the states of the moments that have begun and the steps that hold."""
+    told = []
+    for moment, state in zip(world.moments, states):
+        told.extend(words_at(moment, state))
+    return told + list(held)
 
 
 def run(keeping, state, events, left=()):
@@ -83,10 +89,8 @@ def story_of_path(keeping, path):
 def harmed(keeping, harm):
     """Tell the first story in which a formula holds, or None."""
     formula = known_formula(harm, keeping.words())
-    paths = paths_of(keeping)
-    bits = bits_of(keeping, paths, formula)
-    # The first story has the lowest bit.
-    return None if bits == 0 else story_of_path(keeping, paths[(bits & -bits).bit_length() - 1])
+    path = first_paths(keeping, [formula]).get((True,))
+    return None if path is None else story_of_path(keeping, path)
 
 
 def reached(keeping):

@@ -129,19 +129,29 @@ def words_now(state):
     return [] if state is None else [*state, "there"]
 
 
-def ways_from(world, state, moment):
-    """Tell the way to each state that a row in this state can reach ahead of a moment.
+def words_at(moment, state):
+    """List the words that tell what holds in a state as a moment begins."""
+    return [f"{word}@{moment}" for word in words_now(state)]
 
-    States of as many events stand by their ways, and events are tried in order: so the
+
+def ways_from(world, state, moment):
+    """Tell the way to each state that a row in this state can reach ahead of a moment."""
+    return ways_by(state, world.spans[moment], lambda before, name: world.moves[name].get(before, before))
+
+
+def ways_by(start, names, move):
+    """Tell the way to each thing that events of some names can make of one, each by as few as possible.
+
+    Ways of as many events stand by the order of the names, and events are tried in order: so the
     first way that is found is the first one of the shortest.
     """
-    ways = {state: []}
-    rim = [state]
+    ways = {start: []}
+    rim = [start]
     while rim:
         found = []
         for before in rim:
-            for name in world.spans[moment]:
-                behind = world.moves[name].get(before, before)
+            for name in names:
+                behind = move(before, name)
                 if behind not in ways:
                     ways[behind] = ways[before] + [name]
                     found.append(behind)

@@ -4,13 +4,14 @@ import copy
 import itertools
 import unittest
 
-from allticked.errors import BadCount, BadEffect, BadFormula, NameInUse, NoMoment, NoWord, TickError, UnlikeDeeds, UnlikeWorlds
+from allticked.errors import BadCount, BadEffect, BadFormula, NameInUse, NoMoment, NoWord, UnlikeDeeds, UnlikeWorlds
 from allticked.formulas import Formula
 from allticked.keepings import Keeping
 from allticked.ready import all_but, both_times, by_question, joined, of_then, these
 from allticked.stories import stories
 from allticked.worlds import World
 from tests.pool import any_keys, any_objects
+from tests.refusing import Refusing
 
 EVENTS = [("close", "open", {"open": False}), ("reopen", "there", {"open": True}), ("come", "all", ["open"]), ("go", "there", "go")]
 
@@ -28,18 +29,6 @@ def five(world, tick="shown", done="done", wanted="open", effect="go", out="mine
         "of_then": lambda: of_then(world, tick, done, wanted, effect),
         "both_times": lambda: both_times(world, tick, done, wanted, effect),
     }
-
-
-class Refusing(unittest.TestCase):
-
-    def refused(self, kind, attributes, call, *passed):
-        with self.assertRaises(TickError) as caught:
-            call(*passed)
-        self.assertEqual(type(caught.exception), kind)
-        told = list(vars(caught.exception).values())
-        self.assertEqual(len(told), len(attributes))
-        for one, other in zip(told, attributes):
-            self.assertTrue(one is other or one == other)
 
 
 class TestReady(Refusing):

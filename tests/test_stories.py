@@ -6,14 +6,15 @@ import random
 import time
 import unittest
 
-from allticked.errors import BadCount, BadFormula, BadState, NoEvent, NoStep, NoWord, TickError
+from allticked.errors import BadCount, BadFormula, BadState, NoEvent, NoStep, NoWord
 from allticked.formulas import Formula
 from allticked.keepings import Keeping
 from allticked.ready import by_question, these
 from allticked.stories import Story, harmed, reached, run, stories
 from allticked.worlds import World
-from tests.plain import drawn
+from tests.plain import drawn, told
 from tests.pool import any_objects
+from tests.refusing import Refusing
 
 EVENTS = [
     ("close", "open", {"open": False}), ("reopen", "there and not open", {"open": True}),
@@ -33,27 +34,10 @@ def full(spans=None, first="all"):
     return Keeping(mails(spans, first), STEPS)
 
 
-def told(story):
-    """Return what a story tells, to be compared."""
-    return story.states, story.events, story.left_out, story.words()
-
-
 def some_drawn():
     """Return drawn keepings with the most events between two moments that tell all of their stories."""
     rows = [(drawn(1, 60, "a", "mnp", 3, 6), 2), (drawn(2, 25, "", "mnpq", 3, 6), 1), (drawn(3, 25, "cab", "m", 2, 6), 0)]
     return [(one, most) for group, most in rows for one in group]
-
-
-class Refusing(unittest.TestCase):
-
-    def refused(self, kind, attributes, call, *passed):
-        with self.assertRaises(TickError) as caught:
-            call(*passed)
-        self.assertEqual(type(caught.exception), kind)
-        told = list(vars(caught.exception).values())
-        self.assertEqual(len(told), len(attributes))
-        for one, other in zip(told, attributes):
-            self.assertTrue(one is other or one == other)
 
 
 class TestRun(unittest.TestCase):
