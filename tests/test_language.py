@@ -33,6 +33,28 @@ INTERFACE = {
         "Story": ["__init__", "words", "holds", "__eq__"], "run": ["keeping", "state", "events", "left"], "stories": ["keeping"],
         "harmed": ["keeping", "harm"], "reached": ["keeping"],
     },
+    "twins": {"worse": ["one", "other", "harm"], "parting": ["one", "other", "wish"]},
+    "marks": {
+        "demands": ["world", "tick", "done", "must", "never"], "quarrel": ["world", "tick", "done", "must", "never"],
+        "least_marks": ["world", "tick", "done", "must", "never"],
+        "kept_for": ["world", "tick", "done", "must", "never", "effect", "eager"],
+    },
+    "rules": {
+        "views": ["keeping", "deed", "must", "never"], "careful": ["keeping", "deed", "must", "never"],
+        "eager_one": ["keeping", "deed", "must", "never"],
+    },
+    "counts": {"Count": ["__init__", "terms", "of", "total"]},
+    "hiding": {
+        "hidden": ["keeping", "harm", "counts"], "weights": ["keeping", "harm", "counts"],
+        "is_weights": ["keeping", "harm", "counts", "thing"], "most": ["keeping", "harm", "counts", "slack"],
+        "guards": ["keeping", "harm", "counts"], "unsettled": ["keeping", "counts", "count"],
+    },
+    "trials": {"Trials": ["__init__", "views", "row", "saw", "told", "unseen", "fits", "fitting", "parting"]},
+    "living": {
+        "Live": [
+            "__init__", "names", "state_of", "holds", "struck", "happens", "stop", "go", "story_of", "totals", "undo", "copy", "tried",
+        ],
+    },
 }
 PARAMETERS = {
     "formulas.Formula.__init__": "(self, text)", "formulas.Formula.words": "(self)", "formulas.Formula.holds": "(self, words)",
@@ -44,6 +66,15 @@ PARAMETERS = {
     "keepings.Keeping.words": "(self)", "keepings.Keeping.formula": "(self, name)", "keepings.Keeping.moment_of": "(self, name)",
     "keepings.Keeping.effect_of": "(self, name)", "keepings.Keeping.stopping": "(self)",
     "keepings.Keeping.changed": "(self, name, formula)", "stories.Story.words": "(self)", "stories.Story.holds": "(self, formula)",
+    "counts.Count.__init__": "(self, terms)", "counts.Count.terms": "(self)", "counts.Count.of": "(self, story)",
+    "counts.Count.total": "(self, parts)", "trials.Trials.__init__": "(self, keeping, deed)", "trials.Trials.views": "(self)",
+    "trials.Trials.row": "(self, view)", "trials.Trials.saw": "(self, view, taken)", "trials.Trials.told": "(self, view)",
+    "trials.Trials.unseen": "(self)", "trials.Trials.fits": "(self, formula)", "trials.Trials.fitting": "(self, formulas)",
+    "trials.Trials.parting": "(self, one, other)", "living.Live.__init__": "(self, keeping, rows)", "living.Live.names": "(self)",
+    "living.Live.state_of": "(self, name)", "living.Live.holds": "(self, name)", "living.Live.struck": "(self, deed)",
+    "living.Live.happens": "(self, name, event)", "living.Live.stop": "(self, name, deed)", "living.Live.go": "(self)",
+    "living.Live.story_of": "(self, name)", "living.Live.totals": "(self, counts)", "living.Live.undo": "(self)",
+    "living.Live.copy": "(self)", "living.Live.tried": "(self, work)",
 }
 
 ALLOWED = set(
@@ -190,6 +221,10 @@ class TestInterface(unittest.TestCase):
                         self.assertIn(part, vars(thing), name)
                 else:
                     self.assertEqual(list(inspect.signature(thing).parameters), parts)
+
+    def test_eager_stands_behind_a_star(self):
+        eager = inspect.signature(importlib.import_module("allticked.marks").kept_for).parameters["eager"]
+        self.assertEqual([eager.kind, eager.default], [inspect.Parameter.KEYWORD_ONLY, False])
 
     def test_parameters(self):
         for place, told in PARAMETERS.items():
